@@ -1,0 +1,1 @@
+"""Heapfriends: books laid on top while their friends lie above them."""

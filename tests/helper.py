@@ -1,0 +1,143 @@
+"""What the tests share: things of every kind, heaps and ties by a seeded draw, and the conventions of [2]."""
+
+import copy
+import itertools
+import random
+
+BOOKS = ("a", "ab", "b", "bell", "c", "d", "dd", "e", "fable", "folder", "g", "h")
+
+HUGE = 10 ** 5000
+
+
+def nest(kind, inner, depth):
+    for _ in range(depth):
+        inner = kind([inner])
+    return inner
+
+
+ODD = [
+    0, 1, -1, 2, 12, 10 ** 30, HUGE, True, False, None,
+    "", "a", "b", "ab", "zz", "abcdef", "abcdefg", "A", "aB", "a1", "1", "a b", " a", "a ", "a-b", "-", "_", "a\n",
+    "\u00e9", "\u0430", "a\u0301", "\u00df", "\uff41", "`", "{", "None", "True",
+    [], (), [[]], ((),), ([],), [()], ["a"], ("a",), ["a", "b"], ("a", "b"), ["b", "a"], ("b", "a"),
+    [("a", "b")], (("a", "b"),), (["a", "b"],), [["a", "b"]], ("a", "b", "c"), ["a", "b", "c"],
+    (1, 2), [1, 2], (True, False), [None, None], ("a", 1), ["a", None], ("a", ["b"]), ("a", "b", 3),
+    nest(list, "a", 7), nest(tuple, "a", 7), nest(list, None, 8), nest(tuple, 0, 8), nest(list, (), 7),
+]
+
+# HUGE can't be shown as a text, so it's left out where answers are compared as texts.
+SHOWN_ODD = [thing for thing in ODD if thing is not HUGE]
+
+
+def variants(thing):
+    """Everything that one change at any one place makes of the thing, the thing itself too."""
+    yield thing
+    yield from ODD
+    if isinstance(thing, str):
+        yield from (thing + "a", thing + "A", thing + "7", thing + " ", thing * 7, thing.upper(), thing[:-1])
+    if isinstance(thing, (list, tuple)):
+        kind, other = (list, tuple) if isinstance(thing, list) else (tuple, list)
+        yield from (other(thing), thing[::-1], thing + thing, thing + thing[:1], kind([thing]), other([thing]))
+        for at, inner in enumerate(thing):
+            yield thing[:at] + thing[at + 1:]
+            yield thing[:at] + thing[at:at + 1] + thing[at:]
+            yield thing[at:] + thing[:at]
+            for changed in variants(inner):
+                yield thing[:at] + kind([changed]) + thing[at + 1:]
+
+
+def drawn_heaps(seed, many, least=1, most=12):
+    """Pairs (heap, ties): so many by a draw that is the same each time."""
+    draw = random.Random(seed)
+    for _ in range(many):
+        heap = drawn_heap(draw, draw.randint(least, most))
+        yield heap, drawn_ties(draw, heap)
+
+
+def drawn_heap(draw, many):
+    return tuple(draw.sample(BOOKS, many))
+
+
+def drawn_ties(draw, heap):
+    share = draw.choice((0, 0.1, 0.2, 0.3, 0.5, 0.8, 1))
+    return tuple(sorted(pair for pair in itertools.permutations(heap, 2) if draw.random() < share))
+
+
+def all_ties(heap):
+    """All TIES that the heap can have."""
+    pairs = sorted(itertools.permutations(heap, 2))
+    for chosen in itertools.product((False, True), repeat=len(pairs)):
+        yield tuple(pair for pair, taken in zip(pairs, chosen) if taken)
+
+
+def outcome(function, *places, **named):
+    """A text of what is told or refused, in which True isn't 1 and a list is no tuple."""
+    try:
+        return "told " + repr(function(*places, **named))
+    except (ValueError, LookupError, RuntimeError, OverflowError) as refusal:
+        return "refused " + type(refusal).__name__ + repr(vars(refusal))
+
+
+def rebuilt(value, choose):
+    """The value with each list and tuple in it made of the kind that choose tells."""
+    if not isinstance(value, (list, tuple)):
+        return value
+    return choose(value)([rebuilt(inner, choose) for inner in value])
+
+
+def always_list(value):
+    return list
+
+
+def always_tuple(value):
+    return tuple
+
+
+def turned_kind(value):
+    return tuple if isinstance(value, list) else list
+
+
+def lists_in(value):
+    if not isinstance(value, (list, tuple)):
+        return []
+    found = [value] if isinstance(value, list) else []
+    for inner in value:
+        found += lists_in(inner)
+    return found
+
+
+def check_asking(case, function, named, exact=("thing",)):
+    """All that [2] promises of asking; the arguments named in exact are handed in just as they are."""
+    before = repr(named)
+    first = outcome(function, *named.values())
+    case.assertEqual(first, outcome(function, *named.values()))
+    for order in itertools.permutations(named):
+        case.assertEqual(first, outcome(function, **{name: named[name] for name in order}))
+    for choose in (always_list, always_tuple, turned_kind):
+        check_other_kinds(case, function, named, exact, choose, first)
+    case.assertEqual(before, repr(named))
+    if first.startswith("told "):
+        check_told(case, function, named, first)
+    case.assertEqual(before, repr(named))
+
+
+def check_other_kinds(case, function, named, exact, choose, first):
+    handed = {name: value if name in exact else rebuilt(value, choose) for name, value in named.items()}
+    before = repr(handed)
+    case.assertEqual(first, outcome(function, **handed))
+    case.assertEqual(before, repr(handed))
+
+
+def check_told(case, function, named, first):
+    """What is told is the asker's own: no list of it is shared, and changing it changes no later answer."""
+    handed = copy.deepcopy(named)
+    told = function(**handed)
+    lists = lists_in(told)
+    case.assertEqual(len(lists), len({id(each) for each in lists}))
+    theirs = {id(each) for value in handed.values() for each in lists_in(value)}
+    case.assertFalse([each for each in lists if id(each) in theirs])
+    for each in lists:
+        each.append("changed")
+        each.reverse()
+    case.assertEqual(first, outcome(function, **handed))
+    case.assertEqual(repr(named), repr(handed))
