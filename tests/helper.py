@@ -70,6 +70,64 @@ def all_ties(heap):
         yield tuple(pair for pair, taken in zip(pairs, chosen) if taken)
 
 
+def is_let(heap, ties, book):
+    return all(heap.index(friend) < heap.index(book) for fan, friend in ties if fan == book)
+
+
+def moved(heap, book):
+    rest = list(heap)
+    rest.remove(book)
+    return tuple([book] + rest)
+
+
+def left(heap, row):
+    for book in row:
+        heap = moved(heap, book)
+    return tuple(heap)
+
+
+def refused_place(heap, ties, row):
+    for place, book in enumerate(row):
+        if not is_let(heap, ties, book):
+            return place
+        heap = moved(heap, book)
+    return None
+
+
+def drawn_row(draw, heap, ties, many):
+    """A ROW of so many deeds that's let; of fewer where no book may go any longer."""
+    row = []
+    for _ in range(many):
+        free = [book for book in heap if is_let(heap, ties, book)]
+        if not free:
+            break
+        row.append(draw.choice(free))
+        heap = moved(heap, row[-1])
+    return row
+
+
+def is_ring(ties, thing):
+    if type(thing) is not list or len(thing) < 2 or not all(type(book) is str for book in thing):
+        return False
+    turns = list(zip(thing, thing[1:] + thing[:1]))
+    return len(set(thing)) == len(thing) and set(turns) <= set(ties)
+
+
+def number_of(heap, ring):
+    return sum(heap.index(friend) < heap.index(book) for book, friend in zip(ring, ring[1:] + ring[:1]))
+
+
+def rings_by_trial(ties):
+    """All rings, each begun with its least book: every order of every choice of books is tried."""
+    books = sorted({book for pair in ties for book in pair})
+    found = []
+    for many in range(2, len(books) + 1):
+        for order in itertools.permutations(books, many):
+            if order[0] == min(order) and is_ring(ties, list(order)):
+                found.append(list(order))
+    return sorted(found)
+
+
 def outcome(function, *places, **named):
     """A text of what is told or refused, in which True isn't 1 and a list is no tuple."""
     try:
