@@ -9,12 +9,14 @@ def refuse_unlike(heap, other):
         raise Unlike()
 
 
+def gain(heap, other, book, friend):
+    """By how much oftener than the book its friend has to go, once the book goes."""
+    return int(lies_above(other, friend, book)) - int(lies_above(heap, friend, book))
+
+
 def tie_gains(heap, other, ties):
-    """Triples (book, friend, gain): by how much oftener than the book the friend has to go, once the book goes."""
-    return [
-        (book, friend, int(lies_above(other, friend, book)) - int(lies_above(heap, friend, book)))
-        for book, friend in ties
-    ]
+    """Triples (book, friend, more), more being the gain."""
+    return [(book, friend, gain(heap, other, book, friend)) for book, friend in ties]
 
 
 def growing_ring(heap, other, ties):
@@ -33,9 +35,9 @@ def growing_ring(heap, other, ties):
 def raise_heights(gains, height, came_from):
     """Raises each friend to its fan's height and the gain; told is the last that was raised, None where none was."""
     raised = None
-    for book, friend, gain in gains:
-        if height[friend] < height[book] + gain:
-            height[friend] = height[book] + gain
+    for book, friend, more in gains:
+        if height[friend] < height[book] + more:
+            height[friend] = height[book] + more
             came_from[friend] = book
             raised = friend
     return raised
@@ -77,9 +79,9 @@ def least_goings(heap, other, ties):
         many = forced_many(heap, other, goings)
         for book in other[:many]:
             goings[book] = max(goings[book], 1)
-        for book, friend, gain in gains:
-            if goings[book] > 0 and goings[friend] < goings[book] + gain:
-                goings[friend] = goings[book] + gain
+        for book, friend, more in gains:
+            if goings[book] > 0 and goings[friend] < goings[book] + more:
+                goings[friend] = goings[book] + more
                 changed = True
     return goings
 

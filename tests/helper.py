@@ -1,12 +1,21 @@
 """What the tests share: things of every kind, heaps and ties by a seeded draw, and the conventions of [2]."""
 
+import collections
 import copy
 import itertools
 import random
 
+from heapfriends.errors import Barred, Unlike
+
 BOOKS = ("a", "ab", "b", "bell", "c", "d", "dd", "e", "fable", "folder", "g", "h")
 
 HUGE = 10 ** 5000
+
+
+UNLIKE = (
+    (("a", "b"), ("a", "c")), (("a", "b"), ("a",)), (("a",), ("a", "b")), (("a",), ("b",)),
+    (("a", "b", "c"), ("c", "b", "d")), (("a", "ab"), ("a", "b")), (BOOKS, BOOKS[:-1]), (BOOKS[1:], BOOKS[:-1]),
+)
 
 
 def nest(kind, inner, depth):
@@ -52,6 +61,34 @@ def drawn_heaps(seed, many, least=1, most=12):
     for _ in range(many):
         heap = drawn_heap(draw, draw.randint(least, most))
         yield heap, drawn_ties(draw, heap)
+
+
+def drawn_pairs(seed, many, least=1, most=12):
+    """Triples (heap, other, ties)."""
+    draw = random.Random(seed)
+    for heap, ties in drawn_heaps(seed, many, least, most):
+        yield heap, tuple(draw.sample(heap, len(heap))), ties
+
+
+def drawn_led(seed, many, least=1, most=12, longest=60):
+    """Quadruples (heap, other, ties, row): the row is let and leaves other."""
+    draw = random.Random(seed)
+    for heap, ties in drawn_heaps(seed, many, least, most):
+        row = drawn_row(draw, heap, ties, draw.randint(0, longest))
+        yield heap, left(heap, row), ties, row
+
+
+def drawn_barred(seed, many, least=3, most=12):
+    """Triples (heap, other, ties): at least one ring, drawn for it, has a greater number in other."""
+    draw = random.Random(seed)
+    found = 0
+    while found < many:
+        heap = drawn_heap(draw, draw.randint(least, most))
+        other = tuple(draw.sample(heap, len(heap)))
+        ring = draw.sample(heap, draw.randint(3, len(heap)))
+        if number_of(other, ring) > number_of(heap, ring):
+            found += 1
+            yield heap, other, tuple(sorted({*drawn_ties(draw, heap), *zip(ring, ring[1:] + ring[:1])}))
 
 
 def drawn_heap(draw, many):
@@ -104,6 +141,26 @@ def drawn_row(draw, heap, ties, many):
         row.append(draw.choice(free))
         heap = moved(heap, row[-1])
     return row
+
+
+def least_costs(heap, ties, prices):
+    """By a plain search: a dict of what a row costs at the least to each heap that's led to."""
+    least = {heap: 0}
+    waiting = collections.deque([heap])
+    while waiting:
+        here = waiting.popleft()
+        for mover in here:
+            if is_let(here, ties, mover):
+                there, price = moved(here, mover), least[here] + prices[mover]
+                if price < least.get(there, price + 1):
+                    least[there] = price
+                    waiting.append(there)
+    return least
+
+
+def fewest_from(heap, ties, book):
+    """By a plain search: a dict of how often the book goes at the fewest to each heap that's led to."""
+    return least_costs(heap, ties, {mover: int(mover == book) for mover in heap})
 
 
 def is_ring(ties, thing):
@@ -199,3 +256,25 @@ def check_told(case, function, named, first):
         each.reverse()
     case.assertEqual(first, outcome(function, **handed))
     case.assertEqual(repr(named), repr(handed))
+
+
+def check_unlike(case, ask, *more):
+    """Heaps that haven't the same books are refused ahead of all."""
+    for heap, other in UNLIKE:
+        for ties in ((), tuple(itertools.permutations(sorted(heap), 2))):
+            for one, two in ((heap, other), (list(heap), other), (other, heap)):
+                with case.assertRaises(Unlike):
+                    ask(one, two, ties, *more)
+
+
+def check_barred(case, ask, *more):
+    """Where a heap doesn't lead to the other, it's refused with a ring whose number is greater there."""
+    for heap, other, ties in drawn_barred(99, 60):
+        for _ in range(2):
+            with case.assertRaises(Barred) as held:
+                ask(heap, other, ties, *more)
+            ring = held.exception.ring
+            case.assertTrue(is_ring(ties, ring))
+            case.assertGreater(number_of(other, ring), number_of(heap, ring))
+            # The ring that is told is the asker's own, so the next one told is none the worse for it.
+            ring.append("changed")

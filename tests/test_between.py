@@ -6,32 +6,11 @@ import random
 import unittest
 
 from heapfriends.between import between, leads
-from heapfriends.errors import Unlike
 from heapfriends.rings import rings
 from helper import (
-    BOOKS, all_ties, check_asking, drawn_heap, drawn_heaps, drawn_row, drawn_ties, is_let, is_ring, left, moved,
-    number_of, refused_place, rings_by_trial,
+    BOOKS, UNLIKE, all_ties, check_asking, check_unlike, drawn_barred, drawn_heap, drawn_heaps, drawn_row, drawn_ties,
+    fewest_from, is_ring, left, number_of, refused_place, rings_by_trial,
 )
-
-UNLIKE = (
-    (("a", "b"), ("a", "c")), (("a", "b"), ("a",)), (("a",), ("a", "b")), (("a",), ("b",)),
-    (("a", "b", "c"), ("c", "b", "d")), (("a", "ab"), ("a", "b")), (BOOKS, BOOKS[:-1]), (BOOKS[1:], BOOKS[:-1]),
-)
-
-
-def fewest_from(heap, ties, book):
-    """By a plain search: a dict of how often the book goes at the fewest to each heap that's led to."""
-    fewest = {heap: 0}
-    waiting = collections.deque([heap])
-    while waiting:
-        here = waiting.popleft()
-        for mover in here:
-            if is_let(here, ties, mover):
-                there, many = moved(here, mover), fewest[here] + (mover == book)
-                if many < fewest.get(there, many + 1):
-                    fewest[there] = many
-                    waiting.append(there)
-    return fewest
 
 
 class AgainstPlainSearch(unittest.TestCase):
@@ -136,6 +115,14 @@ class TwelveBooks(unittest.TestCase):
                 self.assertGreater(number_of(other, told), number_of(heap, told))
         self.assertEqual(set(kinds), {"row", "ring"})
 
+    def test_a_ring_that_grows_bars(self):
+        for heap, other, ties in drawn_barred(46, 60):
+            self.assertIs(leads(heap, other, ties), False)
+            kind, ring = between(heap, other, ties)
+            self.assertEqual(kind, "ring")
+            self.assertTrue(is_ring(ties, ring))
+            self.assertGreater(number_of(other, ring), number_of(heap, ring))
+
     def test_just_where_no_ring_grows(self):
         draw = random.Random(45)
         for _ in range(60):
@@ -157,12 +144,8 @@ class TwelveBooks(unittest.TestCase):
 
 class UnlikeHeaps(unittest.TestCase):
     def test_refused_ahead_of_all(self):
-        for heap, other in UNLIKE:
-            for ties in ((), tuple(itertools.permutations(sorted(heap), 2))):
-                for ask in (leads, between):
-                    for one, two in ((heap, other), (list(heap), other), (other, heap)):
-                        with self.assertRaises(Unlike):
-                            ask(one, two, ties)
+        check_unlike(self, leads)
+        check_unlike(self, between)
 
 
 class Asking(unittest.TestCase):

@@ -8,7 +8,8 @@ from heapfriends.between import between
 from heapfriends.checks import shows_bar, shows_row
 from heapfriends.errors import Unlike
 from helper import (
-    BOOKS, SHOWN_ODD, check_asking, drawn_heaps, drawn_row, is_ring, left, number_of, refused_place, variants,
+    BOOKS, SHOWN_ODD, check_asking, drawn_heaps, drawn_pairs, drawn_row, is_ring, left, number_of, refused_place,
+    variants,
 )
 
 
@@ -20,13 +21,6 @@ def is_row_to(heap, other, ties, thing):
 
 def is_bar(heap, other, ties, thing):
     return is_ring(ties, thing) and number_of(other, thing) > number_of(heap, thing)
-
-
-def drawn_pairs(seed, many, least=1, most=12):
-    """Triples (heap, other, ties)."""
-    draw = random.Random(seed)
-    for heap, ties in drawn_heaps(seed, many, least, most):
-        yield heap, tuple(draw.sample(heap, len(heap))), ties
 
 
 class ShowsRow(unittest.TestCase):

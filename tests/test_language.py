@@ -132,6 +132,10 @@ class Statements(unittest.TestCase):
             self.assertLessEqual(node.end_lineno - node.lineno + 1, 40, (path, node.name))
             self.assertEqual(node.args.posonlyargs, [])
 
+    def test_no_two_lambdas_on_one_line(self):
+        lines = [(path, node.lineno) for path, node in nodes(ast.Lambda)]
+        self.assertEqual(len(lines), len(set(lines)))
+
     def test_methods_of_builtin_values(self):
         own = {node.name for _, node in functions()}
         for path, node in nodes(ast.Call):
@@ -139,7 +143,7 @@ class Statements(unittest.TestCase):
                 self.assertIn(node.func.attr, METHODS | own, (path, node.lineno))
 
     def test_no_division_floats_or_generators(self):
-        for path, node in nodes((ast.Div, ast.GeneratorExp, ast.Lambda, ast.Global, ast.Yield)):
+        for path, node in nodes((ast.Div, ast.GeneratorExp, ast.Global, ast.Yield)):
             self.fail((path, node))
         for path, node in nodes(ast.Constant):
             self.assertNotIsInstance(node.value, (float, complex), (path, node.lineno))
