@@ -163,6 +163,11 @@ def fewest_from(heap, ties, book):
     return least_costs(heap, ties, {mover: int(mover == book) for mover in heap})
 
 
+def led_to(heap, ties):
+    """By a plain search: all heaps that are led to."""
+    return set(least_costs(heap, ties, dict.fromkeys(heap, 0)))
+
+
 def is_ring(ties, thing):
     if type(thing) is not list or len(thing) < 2 or not all(type(book) is str for book in thing):
         return False
@@ -183,6 +188,23 @@ def rings_by_trial(ties):
             if order[0] == min(order) and is_ring(ties, list(order)):
                 found.append(list(order))
     return sorted(found)
+
+
+def round_ties(ring):
+    return tuple(sorted(zip(ring, ring[1:] + ring[:1])))
+
+
+def knots_by_trial(ties):
+    near = {}
+    for book in {book for pair in ties for book in pair}:
+        near[book] = {book}
+        while True:
+            more = near[book] | {friend for fan, friend in ties if fan in near[book]}
+            if more == near[book]:
+                break
+            near[book] = more
+    found = {tuple(sorted(mate for mate in near[book] if book in near[mate])) for book in near}
+    return sorted(list(knot) for knot in found if len(knot) > 1)
 
 
 def outcome(function, *places, **named):

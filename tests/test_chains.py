@@ -118,6 +118,7 @@ class ChainRefused(unittest.TestCase):
 
 class ShowsChain(unittest.TestCase):
     heap, other, ties = ("c", "a", "d", "b"), ("b", "a", "d", "c"), (("a", "b"), ("b", "d"), ("d", "a"))
+    whole = [("d", 1), ("a", 1), ("b", 2), ("d", 1)]
 
     def check(self, heap, other, ties, thing):
         self.assertIs(shows_chain(heap, other, ties, thing), is_chain(heap, other, ties, thing))
@@ -135,8 +136,9 @@ class ShowsChain(unittest.TestCase):
         for thing in (
             [], (("a", 1),), [("a", True)], [("a", 2)], [("a", 0)], [("a", -1)], [["a", 1]], [("c", 1)], [("d", 1)],
             ("a", 1), [("a", 1), ("c", 1)], [("a", 1), ("b", 3)], [("a", 1), ("b", True)],
-            [("a", 1), ("b", 1), ("c", 0)], [("a", 1), ("b", 2), ("a", 1)], [("a", 1), ("b", 2), ("c", 2)], [("a", 1, 1)], [("a",)], [("a", "1")],
-            [("a", 1), None], [(("a",), 1)], [(["a"], 1)], "a1", None, True, 1, [("a", 1), ("a", 1)], [("a", None)],
+            [("a", 1), ("b", 1), ("c", 0)], [("a", 1), ("b", 2), ("a", 1)], [("a", 1), ("b", 2), ("c", 2)],
+            [("a", 1, 1)], [("a",)], [("a", "1")], [("a", 1), None], [(("a",), 1)], [(["a"], 1)], "a1", None, True, 1,
+            [("a", 1), ("a", 1)], [("a", None)],
         ):
             self.assertIs(shows_chain(heap, other, ties, thing), False, thing)
 
@@ -161,7 +163,8 @@ class ShowsChain(unittest.TestCase):
                     self.check(heap, other, ties, list(thing))
 
     def test_things_of_every_kind(self):
-        for whole in ([("a", 1)], [("a", 1), ("b", 2), ("d", 1)], []):
+        for whole in (self.whole, self.whole[:1], [("b", 1)]):
+            self.assertIs(shows_chain(self.heap, self.other, self.ties, whole), True)
             for thing in variants(whole):
                 self.check(self.heap, self.other, self.ties, thing)
 
@@ -213,7 +216,7 @@ class Asking(unittest.TestCase):
 
     def test_shows_chain(self):
         heap, other, ties = ShowsChain.heap, ShowsChain.other, ShowsChain.ties
-        for thing in [[("a", 1)], [("a", 1), ("b", 2)], [["a", 1]], (("a", 1),)] + SHOWN_ODD:
+        for thing in [ShowsChain.whole, [("b", 1)], [("a", 1)], [["b", 1]], (("b", 1),)] + SHOWN_ODD:
             check_asking(self, shows_chain, {"heap": heap, "other": other, "ties": ties, "thing": thing})
         for heap, other, ties in drawn_barred(79, 8):
             for book in heap:

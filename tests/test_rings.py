@@ -7,8 +7,8 @@ import unittest
 from heapfriends.errors import TooMany
 from heapfriends.rings import knots, ring_number, rings, shows_ring
 from helper import (
-    BOOKS, SHOWN_ODD, all_ties, check_asking, drawn_heap, drawn_heaps, is_let, is_ring, moved, number_of,
-    rings_by_trial, variants,
+    BOOKS, SHOWN_ODD, all_ties, check_asking, drawn_heap, drawn_heaps, is_let, is_ring, knots_by_trial,
+    moved, number_of, rings_by_trial, round_ties, variants,
 )
 
 TIES = (("a", "b"), ("b", "a"), ("b", "c"), ("c", "a"), ("d", "a"))
@@ -18,10 +18,6 @@ def begun_anywhere(ring):
     return [ring[at:] + ring[:at] for at in range(len(ring))]
 
 
-def round_ties(ring):
-    return tuple(sorted(zip(ring, ring[1:] + ring[:1])))
-
-
 def ladder(books, back):
     """Each book's friends are all behind it, and the first is a friend of those at the places in back.
 
@@ -29,19 +25,6 @@ def ladder(books, back):
     """
     pairs = list(itertools.combinations(books, 2)) + [(books[place], books[0]) for place in back]
     return tuple(sorted(pairs))
-
-
-def knots_by_trial(ties):
-    near = {}
-    for book in {book for pair in ties for book in pair}:
-        near[book] = {book}
-        while True:
-            more = near[book] | {friend for fan, friend in ties if fan in near[book]}
-            if more == near[book]:
-                break
-            near[book] = more
-    found = {tuple(sorted(mate for mate in near[book] if book in near[mate])) for book in near}
-    return sorted(list(knot) for knot in found if len(knot) > 1)
 
 
 class ShowsRing(unittest.TestCase):
