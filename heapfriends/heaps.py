@@ -32,6 +32,11 @@ def is_ties(heap, thing):
     return all([thing[at] < thing[at + 1] for at in range(len(thing) - 1)])
 
 
+def rising_ties(pairs):
+    """The TIES of pairs that may stand in any order."""
+    return tuple(sorted([(book, friend) for book, friend in pairs]))
+
+
 def lies_above(heap, one, other):
     return heap.index(one) < heap.index(other)
 

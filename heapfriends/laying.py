@@ -17,9 +17,14 @@ def may_go(heap, ties):
     return sorted([book for book in heap if all_above(heap, friends_of(ties, book), book)])
 
 
+def refuse_absent(heap, books):
+    for book in books:
+        if book not in heap:
+            raise NoBook(book)
+
+
 def laid(heap, ties, book):
-    if book not in heap:
-        raise NoBook(book)
+    refuse_absent(heap, [book])
     if not all_above(heap, friends_of(ties, book), book):
         raise MayNot(book)
     return on_top(heap, book)

@@ -8,6 +8,7 @@ from heapfriends.errors import TooMany
 from heapfriends.laying import may_go, on_top
 from heapfriends.limits import MOST_KNOT, MOST_LED
 from heapfriends.lots import reading
+from heapfriends.otherwise import only
 from heapfriends.rings import knots
 from heapfriends.ways import walked
 
@@ -18,15 +19,8 @@ def refuse_great_knots(ties):
         raise TooMany(greatest)
 
 
-def within(heap, ties, books):
-    """The pair (heap, ties) of these books alone."""
-    lain = tuple([book for book in heap if book in books])
-    tied = tuple([(book, friend) for book, friend in ties if book in books and friend in books])
-    return (lain, tied)
-
-
 def knot_heaps(heap, ties):
-    return [within(heap, ties, knot) for knot in knots(ties)]
+    return [only(heap, ties, knot) for knot in knots(ties)]
 
 
 def led_from(heap, ties):

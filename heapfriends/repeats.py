@@ -4,14 +4,12 @@ A row leaves its books on top, by their last goings, and the others beneath as t
 round leaves the same, and where the second one is let, all are.
 """
 
-from heapfriends.errors import NoBook, Stopped
-from heapfriends.laying import first_refused, left_by
+from heapfriends.errors import Stopped
+from heapfriends.laying import first_refused, left_by, refuse_absent
 
 
 def again(heap, ties, row, many):
-    for book in row:
-        if book not in heap:
-            raise NoBook(book)
+    refuse_absent(heap, row)
     # The third round and all behind it go as the second one does.
     rounds = list(row) * min(many, 2)
     number = first_refused(heap, ties, rounds)

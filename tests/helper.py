@@ -207,6 +207,20 @@ def knots_by_trial(ties):
     return sorted(list(knot) for knot in found if len(knot) > 1)
 
 
+# All signs of texts that are promised, and the line feed.
+SIGNS = "".join(chr(code) for code in range(32, 127) if chr(code) != "%") + "\n"
+
+
+def texts_near(text, signs=SIGNS):
+    """All texts with one sign otherwise, one less or one more at any place, and the text itself."""
+    yield text
+    for at in range(len(text) + 1):
+        yield text[:at] + text[at + 1:]
+        for sign in signs:
+            yield text[:at] + sign + text[at:]
+            yield text[:at] + sign + text[at + 1:]
+
+
 def outcome(function, *places, **named):
     """A text of what is told or refused, in which True isn't 1 and a list is no tuple."""
     try:

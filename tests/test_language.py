@@ -24,7 +24,7 @@ BARRED_WORDS = (
 )
 STATEMENTS = (
     ast.FunctionDef, ast.ClassDef, ast.Return, ast.Delete, ast.Assign, ast.AugAssign, ast.For, ast.While, ast.If,
-    ast.Raise, ast.Try, ast.Assert, ast.ImportFrom, ast.Nonlocal, ast.Expr, ast.Pass, ast.Break, ast.Continue,
+    ast.Raise, ast.Try, ast.With, ast.Assert, ast.ImportFrom, ast.Nonlocal, ast.Expr, ast.Pass, ast.Break, ast.Continue,
 )
 
 
@@ -147,6 +147,48 @@ class Statements(unittest.TestCase):
             self.fail((path, node))
         for path, node in nodes(ast.Constant):
             self.assertNotIsInstance(node.value, (float, complex), (path, node.lineno))
+
+
+def attributes_of(node):
+    """The names that a class assigns as attributes of its objects."""
+    return {
+        each.attr for each in ast.walk(node) if isinstance(each, ast.Attribute) and isinstance(each.ctx, ast.Store)
+    }
+
+
+class Classes(unittest.TestCase):
+    def test_no_method_has_the_name_of_an_attribute(self):
+        classes = [node for _, node in nodes(ast.ClassDef)]
+        methods = {row.name for node in classes for row in node.body if isinstance(row, ast.FunctionDef)}
+        attributes = set().union(*map(attributes_of, classes))
+        self.assertEqual(methods & attributes, set())
+        self.assertEqual(attributes & set("items keys values pop update append clear extend insert remove reverse "
+                                          "setdefault sort args encode decode hex fromhex format".split()), set())
+
+    def test_double_underscore_methods(self):
+        allowed = {"__init__", "__eq__", "__repr__", "__len__", "__enter__", "__exit__"}
+        for path, node in functions():
+            if node.name.startswith("_"):
+                self.assertIn(node.name, allowed, path)
+
+    def test_no_sets_are_put_to_where_a_class_has_add(self):
+        for path, node in nodes(ast.Call):
+            if isinstance(node.func, ast.Attribute):
+                self.assertNotIn(node.func.attr, ("sort", "discard"), (path, node.lineno))
+                if node.func.attr == "add":
+                    self.assertEqual(ast.unparse(node.func.value), "pile", (path, node.lineno))
+
+    def test_only_own_refusals_are_caught(self):
+        refusals = {node.name for path, node in nodes(ast.ClassDef) if path.name == "errors.py"}
+        for path, node in nodes(ast.ExceptHandler):
+            self.assertIsInstance(node.type, ast.Name)
+            self.assertIn(node.type.id, refusals, (path, node.lineno))
+
+    def test_is_stands_by_none_only(self):
+        for path, node in nodes(ast.Compare):
+            for sign, right in zip(node.ops, node.comparators):
+                if isinstance(sign, (ast.Is, ast.IsNot)):
+                    self.assertIn(ast.unparse(right), ("None", "True", "False"), (path, node.lineno))
 
 
 if __name__ == "__main__":
